@@ -1,0 +1,1 @@
+"""Tapepour: a hall of few tapes, runs poured from tape to tape."""
