@@ -36,6 +36,11 @@ def phases_of(load):
     return phases
 
 
+def loads_ahead(load):
+    """The loads of which each phase of a load that comes out even is made."""
+    return ([load] + phases_of(load))[:-1]
+
+
 def is_even(load):
     """Whether the load comes out even, at one run."""
     try:
